@@ -1,0 +1,1 @@
+"""Twotides: where water that overshoots comes to rest."""
