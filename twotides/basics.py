@@ -26,7 +26,7 @@ def is_fraction(thing):
     return is_integer(top) and is_integer(bottom) and bottom >= 1 and gcd(top, bottom) == 1
 
 
-def is_ascending(things):
+def ascends(things):
     """Whether things that can be compared ascend, each of them once."""
     return all([low < high for low, high in zip(things, things[1:])])
 

@@ -1,6 +1,6 @@
 """Books: which sorts of vessels and which kinds of pipes a web may have."""
 
-from twotides.basics import is_ascending, is_between, is_tuple_of
+from twotides.basics import ascends, is_between, is_tuple_of
 from twotides.errors import BadBook, NoSorts
 from twotides.lists import is_list, is_width
 from twotides.webs import pipe_counts
@@ -39,7 +39,7 @@ def is_kind(sorts, thing):
     thresholds, joins = thing
     if not is_list(thresholds) or not isinstance(joins, tuple) or not joins:
         return False
-    return all([is_join(sorts, join) for join in joins]) and is_ascending(joins)
+    return all([is_join(sorts, join) for join in joins]) and ascends(joins)
 
 
 class Book:
@@ -66,7 +66,7 @@ def may_join(book, thresholds, one, other):
     return any([listed == thresholds and join in joins for listed, joins in book.kinds])
 
 
-def is_over_cap(book, sort, count):
+def exceeds_cap(book, sort, count):
     """Whether so many pipes are too many at a vessel of the sort; the sea takes any number."""
     width, cap = book.sorts[sort]
     return width > 0 and count > cap
@@ -84,7 +84,7 @@ def first_fault(book, web, sorts):
         if width != book.sorts[sorts[vessel]][0]:
             return "width", vessel
     for vessel, count in enumerate(pipe_counts(web)):
-        if is_over_cap(book, sorts[vessel], count):
+        if exceeds_cap(book, sorts[vessel], count):
             return "cap", vessel
     for number, (one, other, thresholds) in enumerate(web.pipes):
         if not may_join(book, thresholds, sorts[one], sorts[other]):
@@ -104,7 +104,7 @@ def choices_alone(book, web):
     choices = []
     for width, count in zip(web.widths, pipe_counts(web)):
         fitting = [sort for sort, (wide, _) in enumerate(book.sorts) if wide == width]
-        choices.append([sort for sort in fitting if not is_over_cap(book, sort, count)])
+        choices.append([sort for sort in fitting if not exceeds_cap(book, sort, count)])
     return choices
 
 

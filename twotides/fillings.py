@@ -1,6 +1,6 @@
 """Fillings of webs: levels, drops, and what a tick does."""
 
-from twotides.basics import fraction, is_ascending, is_between, is_integer, is_tuple_of
+from twotides.basics import fraction, ascends, is_between, is_integer, is_tuple_of
 from twotides.errors import NoFilling, NoOpening
 from twotides.lists import measures
 
@@ -20,7 +20,7 @@ def is_opening(web, thing):
     many = len(web.pipes)
     if not is_tuple_of(0, many, thing) or not all([is_between(0, many - 1, number) for number in thing]):
         return False
-    return is_ascending(thing)
+    return ascends(thing)
 
 
 def check_filling(web, filling):
