@@ -1,6 +1,6 @@
 """Fillings of webs: levels, drops, and what a tick does."""
 
-from twotides.basics import fraction, ascends, is_between, is_integer, is_tuple_of
+from twotides.basics import ascends, fraction, is_between, is_integer, is_tuple_of
 from twotides.errors import NoFilling, NoOpening
 from twotides.lists import measures
 
