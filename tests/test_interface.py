@@ -14,6 +14,17 @@ FUNCTIONS = {
     "books": {"fault": 3, "sorts_of": 2},
     "fillings": {"levels": 2, "drops": 2, "flows": 3, "tick": 3, "nets": 3},
     "ledgers": {"square": 2, "tide": 2, "falls": 2},
+    "sways": {"sway": 2, "after": 3, "latest": 2, "is_sway": 2, "basins": 2},
+    "timetables": {"rounds": 3},
+    "calm": {"room": 3, "breach": 1, "is_breach": 2, "calm": 1, "calm_singly": 1, "sway_web": 2, "loss": 1,
+             "most_measures": 4, "costs": 5},
+    "mending": {"widest": 4, "raised": 1, "mended": 2, "cheapest": 3, "greatest_cap": 2, "least_width": 2,
+                "calm_joins": 2},
+    "patterns": {"standing": 2, "bounds": 3, "bar": 3, "is_bar": 4, "calm_web": 1, "patterns": 1, "least_shut": 1,
+                 "cheapest_shut": 2},
+    "cases": {"case_tree": 1, "is_case_tree": 2},
+    "hangs": {"hang_table": 1, "ringless_sway": 1, "is_hang_table": 2},
+    "rows": {"row_count": 4, "shortest_row": 2},
 }
 CLASSES = {
     "webs": {"Web": {"__init__": 2, "__eq__": 1}},
@@ -58,6 +69,40 @@ class InterfaceTest(unittest.TestCase):
             (tuple, fillings.nets(TWO, (5, 0), None)), (tuple, ledgers.square(TWO, (5, 0))),
             (tuple, ledgers.tide(TWO, (5, 0))), (tuple, ledgers.falls(TWO, (5, 0))),
             (tuple, play.tick(None)), (tuple, play.now()), (list, play.log()), (int, play.ran()), (Play, play.copy()),
+        ):
+            self.assertIs(type(found), kind, found)
+
+    def test_kinds_of_values_of_sways_and_books(self):
+        sways, calm, mending = (import_module(f"twotides.{name}") for name in ("sways", "calm", "mending"))
+        thing, still = (0, (0, 0), (2, 1)), mending.raised(TIGHT)
+        book = import_module("twotides.books").Book
+        for kind, found in (
+            (tuple, sways.sway(TWO, (5, 0))), (tuple, sways.after(TWO, (5, 0), 1)), (tuple, sways.latest(TWO, 1)),
+            (bool, sways.is_sway(TWO, None)), (dict, sways.basins(TWO, 1)),
+            (tuple, import_module("twotides.timetables").rounds(TWO, (5, 0), [None])),
+            (tuple, calm.room(TIGHT, 0, 0)), (tuple, calm.breach(TIGHT)), (bool, calm.is_breach(TIGHT, thing)),
+            (bool, calm.calm(TIGHT)), (bool, calm.calm_singly(TIGHT)), (tuple, calm.sway_web(TIGHT, thing)),
+            (tuple, calm.loss(still)), (int, calm.most_measures(still, TWO.__class__((1,), ()), (0,), (5,))),
+            (tuple, calm.costs(still, TWO.__class__((1,), ()), (0,), (5,), None)),
+            (tuple, mending.widest(TIGHT, 0, 0, 2)), (book, still), (book, mending.mended(TIGHT, ((1,), ()))),
+            (tuple, mending.cheapest(TIGHT, (1,), (1,))), (int, mending.greatest_cap(still, 0)),
+            (int, mending.least_width(still, 0)), (list, mending.calm_joins(TIGHT, ((1, 1),))),
+        ):
+            self.assertIs(type(found), kind, found)
+
+    def test_kinds_of_values_of_patterns_and_rows(self):
+        patterns, cases, hangs, rows = (import_module(f"twotides.{name}")
+                                        for name in ("patterns", "cases", "hangs", "rows"))
+        one, still = ((1, 1),), TWO.__class__((1, 1), ((0, 1, ((2, 1),)),))
+        calm = import_module("twotides.mending").raised(TIGHT)
+        for kind, found in (
+            (tuple, patterns.standing(TWO, (1,))), (tuple, patterns.bounds(TWO, (1,), (0, 0))),
+            (tuple, patterns.bar(still, (1,), (0, 0))), (bool, patterns.is_bar(TWO, (1,), (0, 0), None)),
+            (bool, patterns.calm_web(TWO)), (list, patterns.patterns(TWO)), (list, patterns.least_shut(TWO)),
+            (tuple, patterns.cheapest_shut(TWO, (1,))), (tuple, cases.case_tree(still)),
+            (bool, cases.is_case_tree(TWO, None)), (tuple, hangs.hang_table(calm)),
+            (tuple, hangs.ringless_sway(TIGHT)), (bool, hangs.is_hang_table(TIGHT, None)),
+            (int, rows.row_count(1, one, 2, 10)), (int, rows.shortest_row(1, one)),
         ):
             self.assertIs(type(found), kind, found)
 

@@ -2,6 +2,8 @@
 
 from math import gcd
 
+MOST_PRICE = 1000000
+
 
 def is_integer(thing):
     """Whether a thing is an integer; a flag is none."""
@@ -24,6 +26,11 @@ def is_fraction(thing):
         return False
     top, bottom = thing
     return is_integer(top) and is_integer(bottom) and bottom >= 1 and gcd(top, bottom) == 1
+
+
+def is_prices(many, thing):
+    """Whether a thing is a tuple of so many prices."""
+    return is_tuple_of(many, many, thing) and all([is_between(0, MOST_PRICE, price) for price in thing])
 
 
 def ascends(things):

@@ -2,7 +2,7 @@
 
 from twotides.basics import ascends, fraction, is_between, is_integer, is_tuple_of
 from twotides.errors import NoFilling, NoOpening
-from twotides.lists import measures
+from twotides.lists import grains_in_one, in_grains, measures
 
 
 def is_filling(web, thing):
@@ -99,6 +99,36 @@ def behind(web, filling, ran):
     for width, water, net in zip(web.widths, filling, nets_by(web, ran)):
         found.append(water - net if width > 0 else 0)
     return tuple(found)
+
+
+def gates_of(web, opening):
+    """The open pipes, made ready for many ticks: ends, what their waters are in grains, thresholds in grains."""
+    found = []
+    for number, (one, other, thresholds) in enumerate(web.pipes):
+        if opening is None or number in opening:
+            width, width_other = web.widths[one], web.widths[other]
+            many = grains_in_one(width, width_other)
+            # A sea has no water, so it does not matter as how many grains it is counted.
+            found.append((one, other, many // max(width, 1), many // max(width_other, 1), in_grains(thresholds, many)))
+    return found
+
+
+def run_gates(web, gates, filling):
+    """The filling behind a tick through these gates, and how many measures run in it."""
+    waters = list(filling)
+    total = 0
+    for one, other, grains, grains_other, steps in gates:
+        drop = filling[one] * grains - filling[other] * grains_other
+        many = len([1 for step in steps if step <= abs(drop)])
+        total += many
+        if drop < 0:
+            many = -many
+        waters[one] -= many
+        waters[other] += many
+    for vessel, width in enumerate(web.widths):
+        if width == 0:
+            waters[vessel] = 0
+    return tuple(waters), total
 
 
 def flows(web, filling, opening):

@@ -66,9 +66,31 @@ def grains_in_one(width, other):
     return lcm(max(width, 1), max(other, 1))
 
 
+def in_grains(thresholds, many):
+    """The thresholds, each raised to the next multiple of 1 by many, as how many of these it is."""
+    return [(top * many + bottom - 1) // bottom for top, bottom in thresholds]
+
+
 def rounded_up(thresholds, many):
     """The thresholds, each raised to the next multiple of 1 by many."""
-    return tuple([fraction((top * many + bottom - 1) // bottom, many) for top, bottom in thresholds])
+    return tuple([fraction(top, many) for top in in_grains(thresholds, many)])
+
+
+def window(steps, ran, least, most):
+    """The least and the greatest drop at which so much runs, and the contrary when it is less a step.
+
+    All is told in grains, the thresholds in steps; the step is any one from the least to the most.
+    The first is above the second if there is no such drop.
+    """
+    if ran < 0:
+        low, high = window(steps, -ran, -most, -least)
+        return -high, -low
+    if ran == 0:
+        return max(1 - steps[0], 1 - steps[0] + least), min(steps[0] - 1, steps[0] - 1 + most)
+    low, high = steps[ran - 1], most - steps[ran - 1]
+    if ran < len(steps):
+        return max(low, least - steps[ran] + 1), min(high, steps[ran] - 1)
+    return low, high
 
 
 def rounded(thresholds, width, other):

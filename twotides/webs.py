@@ -40,6 +40,14 @@ class Web:
         return isinstance(other, Web) and self.widths == other.widths and self.pipes == other.pipes
 
 
+def free_web(widths, pipes):
+    """A web whose parts are right but for their number, which is bounded only where a Web is constructed."""
+    web = Web((1,), ())
+    web.widths = widths
+    web.pipes = pipes
+    return web
+
+
 def merged(roots, one, other):
     """The roots when the parts of two vessels are one part, whose root is the lesser one."""
     kept = min(roots[one], roots[other])
