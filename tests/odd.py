@@ -46,6 +46,7 @@ def spoiled(thing):
         yield list(thing)
         yield dict(enumerate(thing))
         yield (*thing, *thing)
+        yield (*thing, *thing[-1:], *(() if thing else (0,)))
         yield thing[::-1]
         for at, item in enumerate(thing):
             yield thing[:at] + thing[at + 1:]

@@ -1,7 +1,7 @@
 """What DOC.md says of patterns, bounds, rings, case trees and tables, said once more: by trying all that may be."""
 
 from fractions import Fraction
-from itertools import count, product
+from itertools import product
 from math import ceil, floor, prod
 
 import oracle
@@ -231,11 +231,13 @@ class Tables:
             return False
         return self.due(thing) <= set(thing) and not self.sways(thing)
 
+    def closed(self, table=()):
+        """The table with all that it comes to."""
+        table = set(table)
+        while not self.due(table) <= table:
+            table |= self.due(table)
+        return tuple(sorted(table))
+
     def least(self):
-        table = set()
-        for _ in count():
-            more = self.due(table) | table
-            if more == table:
-                break
-            table = more
-        return None if self.sways(table) else tuple(sorted(table))
+        table = self.closed()
+        return None if self.sways(table) else table

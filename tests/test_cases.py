@@ -44,7 +44,7 @@ class CaseTreeTest(OddCase):
 
     def test_wrong_trees(self):
         web = Web((1, 1), ((0, 1, TWOS),))
-        for wrong in ((), BARRED, (0, (BARRED, BARRED)), (0, (BARRED, (), BARRED, BARRED)), (0, (BARRED, BARRED, ())),
+        for wrong in ((), BARRED, (0, (BARRED, BARRED)), (0, (BARRED, ())), (0, (BARRED, (), BARRED, ())), (0, (BARRED, (), BARRED, BARRED)), (0, (BARRED, BARRED, ())),
                       (0, (BARRED, BARRED, BARRED)), (0, ((), (), ())), (1, (BARRED, (), BARRED)),
                       (-1, (BARRED, (), BARRED)), (False, (BARRED, (), BARRED)), (0, [BARRED, (), BARRED]),
                       [0, (BARRED, (), BARRED)], (0, (list(BARRED), (), BARRED)), (0, (BARRED, [], BARRED)),
@@ -58,6 +58,9 @@ class CaseTreeTest(OddCase):
         self.assertIs(is_case_tree(two, (1, (other, (0, (BARRED, (), BARRED)), other))), True)
         self.assertIs(is_case_tree(two, (0, (other, (1, (other, (), other)), other))), False)
         self.assertIs(is_case_tree(two, other), False)
+        for mixed in ((*other, (0, -1), (0, 1)), ((0, -1), (0, 1), *other), (*other, *other)):
+            due = mixed == (*other, *other)
+            self.assertIs(is_case_tree(two, (1, (mixed, (0, (BARRED, (), BARRED)), mixed))), due)
         self.assertIs(is_case_tree(two, (1, (BARRED, (0, (BARRED, (), BARRED)), other))), False)
         self.assertIs(is_case_tree(two, (1, (other, (1, (other, (), other)), other))), False)
 

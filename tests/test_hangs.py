@@ -8,7 +8,7 @@ import patterns_oracle
 from making import many_times, some_book, some_filling
 from odd import OddCase, STEPS, TIGHT, spoiled
 from twotides.books import Book, fault
-from twotides.hangs import hang_table, is_hang_table, ringless_sway
+from twotides.hangs import fits, flows_below, hang_table, is_hang_table, ringless_sway
 from twotides.patterns import stills
 from twotides.sways import is_sway, sway
 from twotides.webs import Web, is_ringless, parts
@@ -103,6 +103,51 @@ class TableTest(OddCase):
                     checked[due] = checked.get(due, 0) + 1
         self.assertGreater(min(checked.values()), 10)
 
+    def test_hangs_that_come_to_others_and_to_a_sway(self):
+        seen = {}
+        for rng in many_times(120, 6):
+            book = small_book(rng, (0, 1, 2, 3, 3))
+            if not book.kinds:
+                continue
+            tables = patterns_oracle.Tables(book)
+            closed = tables.closed()
+            due = tables.is_table(closed)
+            self.assertIs(hang_table(book) is not None, due)
+            self.assertIs(is_hang_table(book, closed), due)
+            sort = rng.randrange(len(book.sorts))
+            hang = (sort, rng.randrange(len(book.kinds)), rng.randrange(max(book.sorts[sort][0], 1)),
+                    rng.choice((-1, 1)), rng.randint(-4, 4) if book.sorts[sort][0] else 0)
+            if tables.right_hang(hang):
+                for more in (tuple(sorted({*closed, hang})), tables.closed((*closed, hang))):
+                    here = tables.is_table(more)
+                    self.assertIs(is_hang_table(book, more), here, (book.sorts, book.kinds, more))
+                    seen[due, here] = seen.get((due, here), 0) + 1
+        self.assertGreater(min(seen[True, True], seen[True, False], seen[False, False]), 4)
+
+    def test_what_fits_below_a_vessel(self):
+        seen = {}
+        for rng in many_times(150, 9):
+            book = wide_book(rng)
+            tables, vessels = patterns_oracle.Tables(book), list(patterns_oracle.Tables(book).vessels())
+            hangs = [(sort, kind, rest, ran, net if width else 0) for sort, (width, _) in enumerate(book.sorts)
+                     for kind in tables.kinds(sort) for rest in range(max(width, 1)) for ran in (-2, -1, 0, 1, 3)
+                     for net in (-7, -2, 1, 4, 9) if abs(ran) <= len(book.kinds[kind][0])]
+            for _ in range(40 if hangs and vessels else 0):
+                hang, vessel = rng.choice(hangs), rng.choice(vessels)
+                due = tables.fits(hang, vessel)
+                self.assertIs(fits(book, hang, vessel), due, (book.sorts, book.kinds, hang, vessel))
+                seen[due] = seen.get(due, 0) + 1
+                lot = rng.sample(hangs, min(len(hangs), 30))
+                flows = {each[3] for each in lot if tables.fits(each, vessel)}
+                self.assertEqual(sorted(flows_below(book, lot, vessel)), sorted(flows))
+        self.assertGreater(min(seen.values()), 500)
+
+    def test_wide_vessels(self):
+        for rng in many_times(60, 8):
+            book = small_book(rng, (2, 3, 3, 3, 0), FEW + (((1, 1), (3, 2)), ((7, 6),), ((4, 3), (5, 2))))
+            book = Book(tuple((width, min(cap, 2)) for width, cap in book.sorts), book.kinds)
+            self.assertEqual(hang_table(book), patterns_oracle.Tables(book).least(), (book.sorts, book.kinds))
+
     def test_order_and_kinds(self):
         table = hang_table(CALM)
         for wrong in (table[::-1], list(table), table + table[-1:], table[1:] + table[:1], (), (table,), None, CALM,
@@ -183,6 +228,17 @@ class RinglessSwayTest(OddCase):
                     self.assertTrue(stills(web), (book.sorts, book.kinds, web.widths, web.pipes))
         self.assertGreater(len(sizes), 3)
         self.assertGreater(sizes[99], 20)
+
+    def test_named_books_with_few_vessels(self):
+        third = ((2, 3),)
+        for sorts, kinds, many in (
+            (((0, 3), (1, 3)), ((((2, 1), (4, 1)), ((0, 1), (1, 1))), (third, ((0, 1),))), 3),
+            (((0, 3), (1, 3), (2, 3)), ((third, ((0, 1),)), (STEPS, ((1, 1), (1, 2)))), 3),
+            (((2, 2), (1, 2)), ((third, ((0, 1), (1, 1))),), 2),
+            (((2, 3), (0, 3), (1, 2)), ((((7, 3), (7, 2), (9, 2)), ((0, 0), (0, 2))),
+                                        (((2, 1), (4, 1)), ((0, 2), (2, 2)))), 9),
+        ):
+            self.assertEqual(len(self.check(Book(sorts, kinds)).widths), many)
 
     def test_ringless_webs_of_a_book_with_a_table_come_to_rest(self):
         for rng in many_times(60, 4):

@@ -128,8 +128,7 @@ def waters_apart(sorts, i, j, drop):
     top, bottom = drop
     if sorts[i][0] == 0:
         return 0, -top * wide_other // bottom
-    if sorts[j][0] == 0:
-        return top * wide // bottom, 0
+    # Where the other one is the sea, no water of it does at once.
     water_other = 0
     while (top * wide_other + water_other * bottom) * wide % (bottom * wide_other) > 0:
         water_other += 1
