@@ -1,6 +1,7 @@
 """What DOC.md says of patterns, bounds, rings, case trees and tables, said once more: by trying all that may be."""
 
 from fractions import Fraction
+from functools import cache
 from itertools import product
 from math import ceil, floor, prod
 
@@ -72,6 +73,14 @@ def patterns(web):
 
 def sways(thresholds, ran, drop, step):
     return oracle.flow(thresholds, drop) == ran and oracle.flow(thresholds, drop - step) == -ran
+
+
+@cache
+def ways(thresholds, width, ahead, ran, behind):
+    """How many drops of a pipe of a row do between these flows, by trying."""
+    step = by(2 * ran - ahead - behind, width)
+    far = int((oracle.value(thresholds[-1]) + abs(step)) * width) + 2
+    return sum(sways(thresholds, ran, by(x, width), step) for x in range(-far, far + 1))
 
 
 def bounds(web, pattern, rests):

@@ -25,10 +25,19 @@ FUNCTIONS = {
     "cases": {"case_tree": 1, "is_case_tree": 2},
     "hangs": {"hang_table": 1, "ringless_sway": 1, "is_hang_table": 2},
     "rows": {"row_count": 4, "shortest_row": 2},
+    "rings": {"ring_web": 3, "ring_sway": 3, "rings_that_run": 2},
+    "counts": {"rests": 2, "runners": 2, "ahead": 2, "gardens": 2},
+    "foes": {"longest_play": 2, "longest_single": 2, "endless_play": 2, "endless_single": 2, "is_endless_play": 3,
+             "is_endless_single": 3, "still_play": 2, "wakes": 2, "ends": 2},
+    "seen": {"sights": 3, "fitted": 2, "clash": 2, "flows_seen": 3, "is_clash": 3},
+    "strangers": {"refuted": 4, "read_off": 4, "is_refuted": 5, "led": 4, "stranger_end": 3},
+    "texts": {"web_text": 1, "book_text": 1, "filling_text": 1, "log_text": 1},
+    "reading": {"read_web": 1, "read_book": 1, "read_filling": 2, "read_log": 2},
 }
 CLASSES = {
     "webs": {"Web": {"__init__": 2, "__eq__": 1}},
     "books": {"Book": {"__init__": 2, "__eq__": 1}},
+    "desks": {"Desk": {"__init__": 0, "tell": 1, "undoable": 0}},
     "plays": {"Play": {"__init__": 2, "tick": 1, "now": 0, "log": 0, "ran": 0, "back": 1, "copy": 0, "trying": 1}},
 }
 
@@ -103,6 +112,41 @@ class InterfaceTest(unittest.TestCase):
             (bool, cases.is_case_tree(TWO, None)), (tuple, hangs.hang_table(calm)),
             (tuple, hangs.ringless_sway(TIGHT)), (bool, hangs.is_hang_table(TIGHT, None)),
             (int, rows.row_count(1, one, 2, 10)), (int, rows.shortest_row(1, one)),
+        ):
+            self.assertIs(type(found), kind, found)
+
+    def test_kinds_of_values_of_rings_counts_and_foes(self):
+        rings, counts, foes = (import_module(f"twotides.{name}") for name in ("rings", "counts", "foes"))
+        one, still, round_play = ((1, 1),), TWO.__class__((1, 1), ((0, 1, ((2, 1),)),)), ((), ((0,), (0,)))
+        for kind, found in (
+            (TWO.__class__, rings.ring_web(1, one, 3)), (tuple, rings.ring_sway(1, one, 3)),
+            (tuple, rings.rings_that_run(1, one)), (list, counts.rests(TWO, 4)), (list, counts.runners(TWO, 5)),
+            (list, counts.ahead(TWO, (2, 3))), (list, counts.gardens(TWO, 1)), (int, foes.longest_play(still, (5, 0))),
+            (int, foes.longest_single(still, (5, 0))), (tuple, foes.endless_play(TWO, (5, 0))),
+            (tuple, foes.endless_single(TWO, (5, 0))), (bool, foes.is_endless_play(TWO, (1, 0), round_play)),
+            (bool, foes.is_endless_single(TWO, (1, 0), round_play)), (tuple, foes.still_play(still, (5, 0))),
+            (list, foes.wakes(TWO, (2, 2))), (list, foes.ends(TWO, (5, 0))),
+        ):
+            self.assertIs(type(found), kind, found)
+        for play in (foes.endless_play(TWO, (5, 0)), foes.endless_single(TWO, (5, 0))):
+            self.assertEqual([type(part) for part in play], [tuple, tuple])
+
+    def test_kinds_of_values_of_strangers_and_texts(self):
+        seen, strangers, texts, reading = (import_module(f"twotides.{name}")
+                                           for name in ("seen", "strangers", "texts", "reading"))
+        told, desk = [((1, 1), 1), ((2, 1), 0)], import_module("twotides.desks").Desk()
+        for kind, found in (
+            (list, seen.sights(TWO, (5, 0), 1)), (tuple, seen.sights(TWO, (5, 0), 1)[0]), (tuple, seen.fitted([], 1)),
+            (tuple, seen.clash(told, 1)), (tuple, seen.flows_seen(TWO, (5, 0), (4, 1))),
+            (bool, seen.is_clash(told, 1, (0, 1))), (tuple, strangers.refuted(lambda *levels: 7, 1, 1, 1)),
+            (tuple, strangers.read_off(lambda *levels: 0, 1, 1, 1)),
+            (bool, strangers.is_refuted(lambda *levels: 0, 1, 1, 1, None)),
+            (list, strangers.led(TWO, (5, 0), lambda filling: None, 1)),
+            (tuple, strangers.stranger_end(TWO, (5, 0), lambda filling: None)), (str, texts.web_text(TWO)),
+            (str, texts.book_text(TIGHT)), (str, texts.filling_text((5, 0))), (str, texts.log_text([None])),
+            (TWO.__class__, reading.read_web("widths 1\n")), (TIGHT.__class__, reading.read_book("sort 1 1\n")),
+            (tuple, reading.read_filling(TWO, "5 0\n")), (list, reading.read_log(TWO, "all\n")),
+            (str, desk.tell("names")), (int, desk.undoable()),
         ):
             self.assertIs(type(found), kind, found)
 

@@ -43,6 +43,17 @@ def own_names(tree):
             yield node.name
 
 
+def is_plain(value, above):
+    """Whether a value is a literal, or a dict of literals and of names from above."""
+    values = [value]
+    if isinstance(value, ast.Dict):
+        values = value.keys + [each for each in value.values if not (isinstance(each, ast.Name) and each.id in above)]
+    try:
+        return all(ast.literal_eval(each) is not Ellipsis for each in values)
+    except ValueError:
+        return False
+
+
 class LanguageTest(unittest.TestCase):
     def test_files(self):
         self.assertIn(PACKAGE / "__init__.py", FILES)
@@ -95,7 +106,7 @@ class LanguageTest(unittest.TestCase):
                 if isinstance(row, (ast.FunctionDef, ast.ClassDef)):
                     bound.append(row.name)
                 if isinstance(row, ast.Assign):
-                    ast.literal_eval(row.value)
+                    self.assertTrue(is_plain(row.value, bound), (path.name, row.lineno))
                     bound.append(row.targets[0].id)
                 if isinstance(row, ast.ImportFrom):
                     bound.extend(name.name for name in row.names)

@@ -1,27 +1,18 @@
 """Rows of any length [7.3]."""
 
 import unittest
-from functools import cache
 from itertools import product
 
 import oracle
-import patterns_oracle
 from making import many_times
 from odd import OddCase, STEPS
+from patterns_oracle import ways
 from twotides.patterns import runs, stills
 from twotides.rows import row_count, shortest_row
 from twotides.shapes import row_web
 
 ONE, TWOS = ((1, 1),), ((2, 1),)
 LISTS = (ONE, TWOS, STEPS, ((1, 2),), ((2, 1), (3, 1)), ((1, 3), (1, 1)), ((1, 2), (1, 2), (1, 1)), ((3, 4),))
-
-
-@cache
-def ways(thresholds, width, ahead, ran, behind):
-    """How many drops do between these flows, by trying."""
-    step = patterns_oracle.by(2 * ran - ahead - behind, width)
-    far = int((oracle.value(thresholds[-1]) + abs(step)) * width) + 2
-    return sum(patterns_oracle.sways(thresholds, ran, patterns_oracle.by(x, width), step) for x in range(-far, far + 1))
 
 
 def counted(width, thresholds, many):

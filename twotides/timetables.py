@@ -23,20 +23,28 @@ def run_round(web, lots, filling):
     return filling, total
 
 
-def rounds(web, filling, timetable):
-    """The least lead and length, in rounds, of what comes again, and how many measures run in the length."""
-    check_filling(web, filling)
-    if not is_timetable(web, timetable):
-        raise NoOpening()
-    lots = [gates_of(web, opening) for opening in timetable]
-    # The measures that ran ahead of each round are kept, so that those between two are known.
+def comes_again(filling, led):
+    """The least lead and length of what comes again, and how many measures run in the length.
+
+    What leads on tells of a filling the next one, and how many measures run meanwhile.
+    """
+    # The measures that ran ahead of each filling are kept, so that those between two are known.
     met = {filling: 0}
     sums = [0]
     while len(sums) <= MOST_ROUNDS:
-        filling, many = run_round(web, lots, filling)
+        filling, many = led(filling)
         sums.append(sums[-1] + many)
         if filling in met:
             lead = met[filling]
             return lead, len(sums) - 1 - lead, sums[-1] - sums[lead]
         met[filling] = len(sums) - 1
     raise TooMany(MOST_ROUNDS)
+
+
+def rounds(web, filling, timetable):
+    """The least lead and length, in rounds, of what comes again, and how many measures run in the length."""
+    check_filling(web, filling)
+    if not is_timetable(web, timetable):
+        raise NoOpening()
+    lots = [gates_of(web, opening) for opening in timetable]
+    return comes_again(filling, lambda now: run_round(web, lots, now))
