@@ -44,7 +44,8 @@ class CaseTreeTest(OddCase):
 
     def test_wrong_trees(self):
         web = Web((1, 1), ((0, 1, TWOS),))
-        for wrong in ((), BARRED, (0, (BARRED, BARRED)), (0, (BARRED, ())), (0, (BARRED, (), BARRED, ())), (0, (BARRED, (), BARRED, BARRED)), (0, (BARRED, BARRED, ())),
+        for wrong in ((), BARRED, (0, (BARRED, BARRED)), (0, (BARRED, ())), (0, (BARRED, (), BARRED, ())),
+                      (0, (BARRED, (), BARRED, BARRED)), (0, (BARRED, BARRED, ())),
                       (0, (BARRED, BARRED, BARRED)), (0, ((), (), ())), (1, (BARRED, (), BARRED)),
                       (-1, (BARRED, (), BARRED)), (False, (BARRED, (), BARRED)), (0, [BARRED, (), BARRED]),
                       [0, (BARRED, (), BARRED)], (0, (list(BARRED), (), BARRED)), (0, (BARRED, [], BARRED)),

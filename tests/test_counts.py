@@ -138,7 +138,8 @@ class RestsTest(CountsCase):
             self.assertEqual(answer(rests, web, 0)[0], "returned" if fine else "TooMany")
         # A ring's last pipe is none of the tree.
         last = Web((1, 1, 1), ((0, 1, ((30, 1),)), (1, 2, ((30, 1),)), (0, 2, ((10 ** 6, 1),))))
-        self.assertEqual(len(rests(last, 0)), len([1 for a, b in product(range(-29, 30), repeat=2) if (a - b) % 3 == 0]))
+        self.assertEqual(len(rests(last, 0)),
+                         len([1 for a, b in product(range(-29, 30), repeat=2) if (a - b) % 3 == 0]))
         self.refuses("TooMany", {"most": 5000}, rests, Web((2, 2), ((0, 1, ((2501, 2),)),)), 0)
         self.assertEqual(len(rests(Web((2, 2), ((0, 1, ((4999, 4),)),)), 0)), 2499)
 

@@ -137,12 +137,14 @@ class LinesTest(DeskCase):
 
     def test_several_pipes(self):
         desk = self.desk("web a widths 1 0 2|pipe 0 1 1|pipe 0 2 1 2 3|", "fill a 9 0 0|")
-        self.tells(desk, ("tick a 1", "0 3"), ("tick a 0", "1 0"), ("tick a 0,1", "1 3"), ("now a", "1 0 6"), ("ran a", "8"),
+        self.tells(desk, ("tick a 1", "0 3"), ("tick a 0", "1 0"), ("tick a 0,1", "1 3"), ("now a", "1 0 6"),
+                   ("ran a", "8"),
                    ("tick a", "1 -2"), ("now a", "2 0 4"))
 
     def test_without_pipes(self):
         desk = self.desk("web a widths 3 0|", "fill a -7 0|")
-        self.tells(desk, ("tick a", "none"), ("now a", "-7 0"), ("ran a", "0"), ("sway a", "0 rest"), ("stills a", "yes"))
+        self.tells(desk, ("tick a", "none"), ("now a", "-7 0"), ("ran a", "0"), ("sway a", "0 rest"),
+                   ("stills a", "yes"))
 
     def test_books(self):
         desk = self.desk(f"book a {TIGHT_TEXT}", "book b sort 1 2|kind 3 5 7 : 0-0|", "book c sort 3 1|",
@@ -177,7 +179,8 @@ class LinesTest(DeskCase):
         self.tells(desk, ("now a", "4 1"), (f"web a {TWO_TEXT}", "ok"))
         for line in ("now a", "ran a", "sway a", "tick a", "tick a 0", "tick a 7"):
             self.refuses("NoName", {"name": "a"}, desk.tell, line)
-        self.tells(desk, ("undo", "ok"), ("now a", "4 1"), ("ran a", "1"), (f"book a {TIGHT_TEXT}", "ok"), ("now a", "4 1"),
+        self.tells(desk, ("undo", "ok"), ("now a", "4 1"), ("ran a", "1"), (f"book a {TIGHT_TEXT}", "ok"),
+                   ("now a", "4 1"),
                    ("tick a", "1"), (f"web b {TWO_TEXT}", "ok"), ("now a", "3 2"))
 
     def test_drop(self):
@@ -191,7 +194,8 @@ class LinesTest(DeskCase):
 
 class UndoTest(DeskCase):
     def test_each_kind_of_line(self):
-        lines = (f"web a {TWO_TEXT}", "fill a 5 0|", "tick a", "tick a 0", f"book a {TIGHT_TEXT}", "fill a 9 0|", "tick a",
+        lines = (f"web a {TWO_TEXT}", "fill a 5 0|", "tick a", "tick a 0", f"book a {TIGHT_TEXT}", "fill a 9 0|",
+                 "tick a",
                  "web a widths 1|", "fill a 3|", "tick a", "book a sort 1 1|", "drop a", f"web a {TWO_TEXT}")
         asked = ("names", "now a", "ran a", "sway a", "calm a", "stills a")
         desk, seen = Desk(), []
@@ -229,8 +233,10 @@ class UndoTest(DeskCase):
         desk = self.desk(f"web a {TWO_TEXT}", f"book b {TIGHT_TEXT}", "fill a 5 0|", "tick a")
         asked = ("names", "now a", "ran a", "sway a", "calm b", "stills a")
         seen = [desk.tell(ask) for ask in asked]
-        for line in ("web a widths 13|", "web a x", "web c widths 1", "book b sort 1 7|", "book b", "fill a 1|", "fill a 1 1",
-                     "fill b 1|", "tick a 1", "tick a 0,0", "tick a 0,", "tick b", "drop c", "now c", None, "undo a", "names ",
+        for line in ("web a widths 13|", "web a x", "web c widths 1", "book b sort 1 7|", "book b", "fill a 1|",
+                     "fill a 1 1",
+                     "fill b 1|", "tick a 1", "tick a 0,0", "tick a 0,", "tick b", "drop c", "now c", None, "undo a",
+                     "names ",
                      "web A widths 1|", "calm a", "stills b", "fill a 1 1|1 1|", "undo "):
             self.assertNotEqual(answer(desk.tell, line)[0], "returned", line)
             self.assertEqual([desk.tell(ask) for ask in asked], seen)
@@ -241,13 +247,18 @@ class UndoTest(DeskCase):
 class ErrorsTest(DeskCase):
     def test_no_line(self):
         desk = self.desk(f"web a {TWO_TEXT}", f"book a {TIGHT_TEXT}", "fill a 5 0|")
-        for line in ("", " ", "x", "undo ", " undo", "undo a", "names a", "Names", "now", "now ", "now  a", " now a", "now a ",
-                     "now a b", "now A", "now a1", "now abcdefghi", "now a\n", "now\ta", "now a\t", "web", "web a", "web a ",
-                     "web  widths 1|", "web A widths 1|", "web abcdefghi widths 1|", "book a", "book a ", "fill a", "fill a ",
+        for line in ("", " ", "x", "undo ", " undo", "undo a", "names a", "Names", "now", "now ", "now  a", " now a",
+                     "now a ",
+                     "now a b", "now A", "now a1", "now abcdefghi", "now a\n", "now\ta", "now a\t", "web", "web a",
+                     "web a ",
+                     "web  widths 1|", "web A widths 1|", "web abcdefghi widths 1|", "book a", "book a ", "fill a",
+                     "fill a ",
                      "web a widths 1\n", "web a widths 1|\npipe", "tick", "tick ", "tick a ", "tick a  0", "tick a 0 ",
                      "tick a 0,", "tick a ,0", "tick a 0,,1", "tick a 00", "tick a -1", "tick a 0 1", "tick a 0, 1",
-                     "tick a 1234567890", "tick a +0", "tick a all", "tick a none", "tick a 0,x", "tick b x", "stills a 0",
-                     "calm a 0", "sway a 0", "ran a 0", "drop a 0", "drop", "calm", "ticks a", "undo\n", "names\n", "drop  a",
+                     "tick a 1234567890", "tick a +0", "tick a all", "tick a none", "tick a 0,x", "tick b x",
+                     "stills a 0",
+                     "calm a 0", "sway a 0", "ran a 0", "drop a 0", "drop", "calm", "ticks a", "undo\n", "names\n",
+                     "drop  a",
                      "web\ta widths 1|", "web a\twidths 1|", "now -", "tick a 0|", "now a|"):
             self.refuses("NoLine", {}, desk.tell, line)
         self.assertEqual(desk.undoable(), 3)
@@ -261,10 +272,14 @@ class ErrorsTest(DeskCase):
 
     def test_texts(self):
         desk = self.desk(f"web a {TWO_TEXT}")
-        for line, number in (("web a x", 1), ("web a widths 1", 1), ("web a  widths 1|", 1), ("web a |", 1), ("web a ||", 1),
-                             ("web a widths 1||", 2), ("web a widths 1|x", 2), ("web a widths 1 1|pipe 0 1|", 2), ("web a  ", 1),
-                             ("book a x", 1), ("book a sort 1 1", 1), ("book a kind 1 : 0-0|sort 1 1|", 2), ("book a \t", 1),
-                             ("fill a 5 0", 1), ("fill a 5 0||", 2), ("fill a 5  0|", 1), ("fill a |", 1), ("fill a x", 1),
+        for line, number in (("web a x", 1), ("web a widths 1", 1), ("web a  widths 1|", 1), ("web a |", 1),
+                             ("web a ||", 1),
+                             ("web a widths 1||", 2), ("web a widths 1|x", 2), ("web a widths 1 1|pipe 0 1|", 2),
+                             ("web a  ", 1),
+                             ("book a x", 1), ("book a sort 1 1", 1), ("book a kind 1 : 0-0|sort 1 1|", 2),
+                             ("book a \t", 1),
+                             ("fill a 5 0", 1), ("fill a 5 0||", 2), ("fill a 5  0|", 1), ("fill a |", 1),
+                             ("fill a x", 1),
                              ("web a widths\t1|", 1), ("fill a 5 -0|", 1), ("fill a 5 0|\t", 2)):
             self.refuses("BadText", {"line": number}, desk.tell, line)
         self.refuses("BadWeb", {"part": "widths"}, desk.tell, "web a widths 13|")
@@ -325,8 +340,10 @@ class WholeDeskTest(DeskCase):
         self.assertFalse(Desk() == None or Desk() == 0 or Desk() == "none")  # noqa: E711
 
     def test_fields(self):
-        for error, fields in ((NoLine(), {}), (NothingDone(), {}), (NoName("a"), {"name": "a"}), (BadText(3), {"line": 3}),
-                              (BadWeb(0), {"part": 0}), (BadBook(0), {"part": 0}), (NoFilling(), {}), (NoOpening(), {})):
+        for error, fields in ((NoLine(), {}), (NothingDone(), {}), (NoName("a"), {"name": "a"}),
+                              (BadText(3), {"line": 3}),
+                              (BadWeb(0), {"part": 0}), (BadBook(0), {"part": 0}), (NoFilling(), {}),
+                              (NoOpening(), {})):
             self.assertEqual(vars(error), fields)
 
 

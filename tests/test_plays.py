@@ -205,7 +205,8 @@ class TryingTest(OddCase):
 
 class WrongTest(OddCase):
     def test_wrong_fillings(self):
-        taken = self.refuses_all("NoFilling", lambda thing: oracle.right_filling(SEA, thing), Play, (SEA,), (8, 0, 1), ())
+        taken = self.refuses_all("NoFilling", lambda thing: oracle.right_filling(SEA, thing), Play, (SEA,), (8, 0, 1),
+                                 ())
         self.assertGreater(taken, 5)
 
     def test_wrong_openings_change_nothing(self):

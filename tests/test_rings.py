@@ -112,7 +112,8 @@ class RingsThatRunTest(OddCase):
 
 class RingSwayTest(OddCase):
     def test_two_fillings_that_sway(self):
-        for width, thresholds in ((1, ONE), (1, TWOS), (1, STEPS), (3, ((2, 3), (4, 3), (5, 3))), (12, ((1, 7), (1, 3))),
+        for width, thresholds in ((1, ONE), (1, TWOS), (1, STEPS), (3, ((2, 3), (4, 3), (5, 3))),
+                                  (12, ((1, 7), (1, 3))),
                                   (1, whole_list(3)), (2, whole_list(1, 1, 1)), (5, ((1, 9),)),
                                   (1, whole_list(2, 4, 6, 8, 9)), (1, whole_list(2, 5, 7, 8, 9, 11))):
             found = []

@@ -93,7 +93,8 @@ class TextsTest(OddCase):
         self.assertEqual(web_text(Web((0,), ())), "widths 0\n")
         self.assertEqual(web_text(Web((12, 0, 3), ())), "widths 12 0 3\n")
         both = Web((1, 0, 2), ((0, 2, ((1, 144), (1, 2), (7, 2))), (0, 1, ONE * 6), (0, 2, ((10 ** 6, 1),))))
-        self.assertEqual(web_text(both), "widths 1 0 2\npipe 0 2 1/144 1/2 7/2\npipe 0 1 1 1 1 1 1 1\npipe 0 2 1000000\n")
+        self.assertEqual(web_text(both),
+                         "widths 1 0 2\npipe 0 2 1/144 1/2 7/2\npipe 0 1 1 1 1 1 1 1\npipe 0 2 1000000\n")
 
     def test_books(self):
         self.assertEqual(book_text(Book(((3, 6),), ())), "sort 3 6\n")
@@ -102,7 +103,8 @@ class TextsTest(OddCase):
         self.assertEqual(book_text(more), "sort 0 1\nsort 2 3\nkind 1/2 : 0-1 1-1\nkind 2 4 5 : 1-1\n")
 
     def test_fillings(self):
-        for filling, text in (((0,), "0\n"), ((5, 0, -17), "5 0 -17\n"), ((10 ** 39, -10 ** 39), f"{10 ** 39} -{10 ** 39}\n")):
+        for filling, text in (((0,), "0\n"), ((5, 0, -17), "5 0 -17\n"),
+                              ((10 ** 39, -10 ** 39), f"{10 ** 39} -{10 ** 39}\n")):
             self.assertEqual(filling_text(filling), text)
 
     def test_logs(self):
@@ -133,7 +135,8 @@ class RoundTripTest(OddCase):
             self.assertEqual(read_log(web, log_text(tuple(openings))), openings)
 
     def test_large_ones(self):
-        web = Web(tuple(range(1, 13)), tuple((k % 11, 11, ((1, 144), (7, 2), (999999, 1), (10 ** 6, 1))) for k in range(36)))
+        thresholds = ((1, 144), (7, 2), (999999, 1), (10 ** 6, 1))
+        web = Web(tuple(range(1, 13)), tuple((k % 11, 11, thresholds) for k in range(36)))
         self.assertEqual(read_web(web_text(web)), web)
         every = tuple(range(36))
         self.assertEqual(read_log(web, log_text([every, None, ()] * 400)), [every, None, ()] * 400)
@@ -155,7 +158,8 @@ class ReadingTest(OddCase):
         self.assertEqual(read_web("widths 1 0 12\n"), Web((1, 0, 12), ()))
         self.assertEqual(read_web("widths 1 0\npipe 0 1 1/2 3\npipe 0 1 1\n"),
                          Web((1, 0), ((0, 1, ((1, 2), (3, 1))), (0, 1, ONE))))
-        self.refuses_lines(read_web, 1, "", "\n", "\n\n", "widths", "widths\n", "widths 1", "widths  1\n", " widths 1\n",
+        self.refuses_lines(read_web, 1, "", "\n", "\n\n", "widths", "widths\n", "widths 1", "widths  1\n",
+                           " widths 1\n",
                            "widths 1 \n", "widths 01\n", "widths -1\n", "widths +1\n", "widths 1/2\n", "Widths 1\n",
                            "width 1\n", "widths 1\t1\n", "widths\t1\n", "widths 1 x\n", "widths 1234567890\n", "1 1\n",
                            "pipe 0 1 1\n", "pipe 0 1 1\nwidths 1 1\n", "sort 1 1\n", "widths 1.0\n", "widths 00\n", "x",
@@ -175,7 +179,8 @@ class ReadingTest(OddCase):
                            "widths 1 1\npipe 0 1 1\npipe 0 1 1", "widths 13\npipe 0 0 0\nx\ny\n")
 
     def test_webs_that_are_none(self):
-        for text, part in (("widths 13\n", "widths"), ("widths 999999999\n", "widths"), ("widths" + " 1" * 13 + "\n", "widths"),
+        for text, part in (("widths 13\n", "widths"), ("widths 999999999\n", "widths"),
+                           ("widths" + " 1" * 13 + "\n", "widths"),
                            ("widths 1 1\npipe 1 0 1\n", 0), ("widths 1 1\npipe 0 1 0\n", 0),
                            ("widths 1 1\npipe 0 1 1\npipe 0 2 1\n", 1), ("widths 1 1\npipe 0 1 2 1\n", 0),
                            ("widths 1 1\npipe 0 1 1/145\n", 0), ("widths 1 1\npipe 0 1 1000001\n", 0),
@@ -189,14 +194,19 @@ class ReadingTest(OddCase):
     def test_books(self):
         self.assertEqual(read_book("sort 1 2\nkind 2 4 5 : 0-0\n"), TIGHT)
         self.assertEqual(read_book("sort 0 1\nsort 2 3\n"), Book(((0, 1), (2, 3)), ()))
-        self.refuses_lines(read_book, 1, "", "\n", "sort 1\n", "sort 1 2 3\n", "sort\n", "sort 1 2", "sort  1 2\n", "sort 1 -2\n",
+        self.refuses_lines(read_book, 1, "", "\n", "sort 1\n", "sort 1 2 3\n", "sort\n", "sort 1 2", "sort  1 2\n",
+                           "sort 1 -2\n",
                            "sort 1 2 \n", "sort 01 2\n", "Sort 1 2\n", "kind 1 : \n", "kind : 0-0\n", "kind 1 0-0\n",
-                           "kind 1 :\n", "kind 1 : 0\n", "kind 1 : 0-0-0\n", "kind 1 : 0--0\n", "kind 1 : -0-0\n", "sort 1 1/2\n",
+                           "kind 1 :\n", "kind 1 : 0\n", "kind 1 : 0-0-0\n", "kind 1 : 0--0\n", "kind 1 : -0-0\n",
+                           "sort 1 1/2\n",
                            "kind 1: 0-0\n", "kind 1 :0-0\n", "kind 1  : 0-0\n", "kind 1 : : 0-0\n", "kind 1 : 0-0 :\n",
-                           "kind 2/4 : 0-0\n", "kind 1 : 0-00\n", "kind\n", "widths 1\n", "kind 1 : 0 - 0\n", "kind 1 : 0-\n",
-                           "kind 1 : 0-1234567890\n", "kind -1 : 0-0\n", "kind 1 : 0-0 \n", "kind 1 : 0-0  0-1\n", ":\n",
+                           "kind 2/4 : 0-0\n", "kind 1 : 0-00\n", "kind\n", "widths 1\n", "kind 1 : 0 - 0\n",
+                           "kind 1 : 0-\n",
+                           "kind 1 : 0-1234567890\n", "kind -1 : 0-0\n", "kind 1 : 0-0 \n", "kind 1 : 0-0  0-1\n",
+                           ":\n",
                            "kind 1 : 0/1\n")
-        self.refuses_lines(read_book, 2, "kind 1 : 0-0\nsort 1 2\n", "sort 1 2\n\n", "sort 1 2\nkind 1 : 0-0", "sort 1 2\n ")
+        self.refuses_lines(read_book, 2, "kind 1 : 0-0\nsort 1 2\n", "sort 1 2\n\n", "sort 1 2\nkind 1 : 0-0",
+                           "sort 1 2\n ")
         self.refuses_lines(read_book, 3, "sort 1 2\nkind 1 : 0-0\nsort 1 2\n", "sort 1 2\nkind 1 : 0-0\n\nsort 1 2\n")
         self.refuses_lines(read_book, 4, "sort 1 2\nkind 1 : 0-0\nkind 1 : 0-0\nsort 1 2\n")
 
@@ -213,8 +223,10 @@ class ReadingTest(OddCase):
     def test_fillings(self):
         self.assertEqual(read_filling(CHAIN, "5 0 -17\n"), (5, 0, -17))
         self.assertEqual(read_filling(CHAIN, "999999999 0 -999999999\n"), (999999999, 0, -999999999))
-        for line, texts in ((1, ("", "\n", "5 0 1", "5  0 1\n", " 5 0 1\n", "5 0 1 \n", "05 0 1\n", "5 -0 1\n", "+5 0 1\n", "5 0 1/2\n",
-                                 "1234567890 0 1\n", "5 0 -1234567890\n", "5 0 --1\n", "5 0 -\n", "5 0 -01\n", "5\t0 1\n", "all\n", "5 0 1,\n",
+        for line, texts in ((1, ("", "\n", "5 0 1", "5  0 1\n", " 5 0 1\n", "5 0 1 \n", "05 0 1\n", "5 -0 1\n",
+                                 "+5 0 1\n", "5 0 1/2\n",
+                                 "1234567890 0 1\n", "5 0 -1234567890\n", "5 0 --1\n", "5 0 -\n", "5 0 -01\n",
+                                 "5\t0 1\n", "all\n", "5 0 1,\n",
                                  "\n5 0 1\n", "5 0 x\n")),
                             (2, ("5 0 1\n5 0 1\n", "5 0 1\n\n", "5 0 1\nx", "5 0 1\n ", "1\n2\n3\n"))):
             for text in texts:
@@ -225,8 +237,10 @@ class ReadingTest(OddCase):
     def test_logs(self):
         self.assertEqual(read_log(CHAIN, ""), [])
         self.assertEqual(read_log(CHAIN, "all\nnone\n0\n0 1\n1\n"), [None, (), (0,), (0, 1), (1,)])
-        for line, texts in ((1, ("\n", "all", "all \n", " all\n", "All\n", "0  1\n", "00\n", "-1\n", "-0\n", "0,1\n", "none 0\n", "x\n",
-                                 "all all\n", "\nall\n", "1234567890\n", "0/1\n", " \n", "\t\n", "0", "+0\n", "all\t\n")),
+        for line, texts in ((1, ("\n", "all", "all \n", " all\n", "All\n", "0  1\n", "00\n", "-1\n", "-0\n", "0,1\n",
+                                 "none 0\n", "x\n",
+                                 "all all\n", "\nall\n", "1234567890\n", "0/1\n", " \n", "\t\n", "0", "+0\n",
+                                 "all\t\n")),
                             (2, ("all\n\n", "all\nx", "2\nnon\n", "1 0\nall"))):
             for text in texts:
                 self.refuses("BadText", {"line": line}, read_log, CHAIN, text)

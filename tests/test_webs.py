@@ -108,7 +108,8 @@ class RinglessTest(OddCase):
 class RenamingTest(OddCase):
     def test_the_least(self):
         self.assertEqual(renaming(Web((1,) * 7, ()), Web((1,) * 7, ())), tuple(range(7)))
-        self.assertEqual(renaming(Web((1,) * 3, pipes((0, 1), (1, 2))), Web((1,) * 3, pipes((0, 1), (0, 2)))), (1, 0, 2))
+        self.assertEqual(renaming(Web((1,) * 3, pipes((0, 1), (1, 2))), Web((1,) * 3, pipes((0, 1), (0, 2)))),
+                         (1, 0, 2))
         self.assertEqual(renaming(Web((2, 1), ()), Web((1, 2), ())), (1, 0))
 
     def test_ends_may_change_places(self):

@@ -131,14 +131,13 @@ def ahead(web, filling):
 
 
 def gardens(web, high):
-    """The fillings with waters from 0 to high to which no tick with all pipes open leads: there is never one.
+    """The fillings with waters from 0 to high to which no tick with all pipes open leads: there are none.
 
-    Let a filling be told. Of all tuples of waters, not whole ones alone, take one for which the tide of
-    its difference from the filling, counted half, is least: the square so counted less, for each pipe,
-    what its drop is above the rounded thresholds with half a grain. It grows without end in all
-    directions, so there is one; and no drop is just at a threshold less half a grain there, as what is
-    taken off has an edge there by which it would be less on one side. So the slopes are 0, which says
-    that the waters are the filling with what runs by them: whole ones, which a tick leads to it.
+    For a filling y look at all waters x, not whole ones alone, and at half the square of x - y less what
+    tide takes off for x. It grows without end on all sides, so somewhere it is least. Where a drop is
+    a rounded threshold less half a grain, it has an edge that points up, so it is not least there;
+    elsewhere its slope in a vessel is x - y less the net, by the width. So where it is least, x - y is
+    the net of x: x is whole, and a tick leads from x to y.
     """
     check_fillings(web, high)
     check_flows(web, MOST_PATTERNS)
